@@ -1,0 +1,1 @@
+"""Earbells: a choir of bells that ring by ear."""
