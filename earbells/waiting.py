@@ -1,5 +1,6 @@
 """Bells that wait for one another for ever, and the strokes at which bells stop."""
 
+from earbells.errors import Waiting
 from earbells.strokes import strokes
 
 
@@ -20,3 +21,9 @@ def stops(choir):
     # does so at latest at the stroke that has the number of the bells.
     told = strokes(choir, len(choir))
     return [first_missing(told, number) for number in range(len(choir))]
+
+
+def refuse_waiting(choir):
+    names = waiting(choir)
+    if len(names) > 0:
+        raise Waiting(names)
