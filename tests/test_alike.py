@@ -26,6 +26,11 @@ def turning(starts):
         ("abcdef"[number], start, "all", (((number + 1) % many, 10, 1),)) for number, start in enumerate(starts))
 
 
+def led(starts, start):
+    """Such a ring, and z, who begins late, comes nearer by a beat a stroke, and at last follows a."""
+    return turning(starts) + (("z", start, "all", ((len(starts), 9, 1), (0, 10, 1))),)
+
+
 def held_by_looking(one, other, names, most):
     """As told, by going through all strokes of both rounds together."""
     for last in (most, None):
@@ -118,6 +123,25 @@ class Parting(unittest.TestCase):
         # As late as the rounds allow: of five and of six strokes, at stroke 9.
         starts = [0, 0, 0, 0, 7]
         self.assertEqual(held_against(turning(starts), turning(starts + [0]), ["a"], 6), ("part", 9, "a", 97, 90))
+
+    def test_behind_most_where_the_rounds_begin_late(self):
+        one = led([0, 7, 7, 7], 20)
+        other = led([7, 0, 7, 7, 7], 20)
+        self.assertEqual((round_of(one, 18), round_of(other, 18)), (("round", 14, 4, 40), ("round", 13, 5, 50)))
+        self.assertEqual(held_against(one, other, ["z"], 18), ("part", 21, "z", 216, 217))
+        self.assertEqual(held_against(other, one, ["z"], 18), ("part", 21, "z", 217, 216))
+
+    def test_late_rounds_against_looking(self):
+        late = 0
+        for starts in itertools.product([0, 7], repeat=3):
+            for again in itertools.product([0, 7], repeat=4):
+                one, other = led(starts, 20), led(again, 20)
+                rounds = [round_of(one, 60), round_of(other, 60)]
+                most = max(told[1] + told[2] for told in rounds)
+                wanted = held_by_looking(one, other, ["z"], most)
+                self.assertEqual(held_against(one, other, ["z"], most), wanted, (starts, again))
+                late += wanted[0] == "part" and wanted[1] > most
+        self.assertGreater(late, 2)
 
     def test_kinds(self):
         told = held_against(turning([0, 1]), turning([0, 2]), ["a"], 5)
